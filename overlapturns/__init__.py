@@ -1,0 +1,1 @@
+"""Overlapturns: loops written with overlapping turns."""

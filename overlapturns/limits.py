@@ -1,0 +1,9 @@
+"""The limits of loops, programs and runs."""
+
+MOST_STEPS = 8
+MOST_OFFSET = 4
+MOST_DISTANCE = 3
+MOST_LINES = 400
+MOST_PLACES = 80
+MOST_BOUND = 12
+MOST_COUNT = 400

@@ -1,0 +1,86 @@
+"""What holds of the package's files as a whole."""
+
+import ast
+import os
+import unittest
+import warnings
+
+from overlapturns import errors, worlds
+
+# The language's few modules of the library, from which names may be imported.
+LIBRARY = ("__future__", "collections", "heapq", "itertools", "math")
+
+FOLDER = os.path.join(os.path.dirname(os.path.dirname(os.path.abspath(__file__))), "overlapturns")
+
+# The methods and properties that the interface lists for a class stand in its own body.
+METHODS = {
+    worlds.Texts: ("known", "cell", "work", "__eq__", "__repr__"),
+    worlds.Numbers: ("__init__", "known", "cell", "work", "modulus", "seed", "__eq__", "__repr__"),
+}
+
+
+def texts_of_files():
+    texts = {}
+    for name in sorted(os.listdir(FOLDER)):
+        if name.endswith(".py"):
+            with open(os.path.join(FOLDER, name), encoding="utf-8", newline="") as file:
+                texts[name] = file.read()
+    return texts
+
+
+class PackageTest(unittest.TestCase):
+    def test_folder_holds_python_files_alone(self):
+        others = [name for name in os.listdir(FOLDER) if not name.endswith(".py") and name != "__pycache__"]
+        self.assertEqual(others, [])
+        self.assertIn("__init__.py", os.listdir(FOLDER))
+
+    def test_characters_and_sizes(self):
+        for name, text in texts_of_files().items():
+            with self.subTest(name=name):
+                self.assertEqual([c for c in text if c != "\n" and not " " <= c <= "~"], [])
+                self.assertLess(len(text.splitlines()), 400)
+                self.assertEqual([line for line in text.splitlines() if len(line) > 120], [])
+
+    def test_functions_are_small(self):
+        for name, text in texts_of_files().items():
+            for node in ast.walk(ast.parse(text)):
+                if isinstance(node, ast.FunctionDef):
+                    with self.subTest(name=name, function=node.name):
+                        self.assertLessEqual(node.end_lineno - node.lineno + 1, 40)
+
+    def test_python_gives_no_warning(self):
+        for name, text in texts_of_files().items():
+            with self.subTest(name=name), warnings.catch_warnings():
+                warnings.simplefilter("error")
+                compile(text, name, "exec")
+
+    def test_imports_are_of_the_package_or_few_others(self):
+        for name, text in texts_of_files().items():
+            for node in ast.walk(ast.parse(text)):
+                with self.subTest(name=name):
+                    self.assertNotIsInstance(node, ast.Import)
+                    if isinstance(node, ast.ImportFrom):
+                        self.assertEqual(node.level, 0)
+                        own = node.module.startswith("overlapturns.")
+                        self.assertTrue(own or node.module in LIBRARY)
+
+    def test_classes_are_defined_where_they_are_listed(self):
+        listed = {errors: ("WrongValue", "WrongMoment"), worlds: ("Texts", "Numbers")}
+        for module, names in listed.items():
+            for name in names:
+                with self.subTest(name=name):
+                    self.assertEqual(getattr(module, name).__module__, module.__name__)
+        for below in (errors.WrongValue.__subclasses__(), errors.WrongMoment.__subclasses__()):
+            for made in below:
+                with self.subTest(name=made.__name__):
+                    self.assertEqual(made.__module__, "overlapturns.errors")
+
+    def test_methods_stand_in_the_class_itself(self):
+        for made, names in METHODS.items():
+            for name in names:
+                with self.subTest(made=made.__name__, name=name):
+                    self.assertIn(name, vars(made))
+
+
+if __name__ == "__main__":
+    unittest.main()
