@@ -5,7 +5,7 @@ import os
 import unittest
 import warnings
 
-from overlapturns import errors, worlds
+from overlapturns import errors, loops, outcomes, programs, worlds
 
 # The language's few modules of the library, from which names may be imported.
 LIBRARY = ("__future__", "collections", "heapq", "itertools", "math")
@@ -16,6 +16,20 @@ FOLDER = os.path.join(os.path.dirname(os.path.dirname(os.path.abspath(__file__))
 METHODS = {
     worlds.Texts: ("known", "cell", "work", "__eq__", "__repr__"),
     worlds.Numbers: ("__init__", "known", "cell", "work", "modulus", "seed", "__eq__", "__repr__"),
+    loops.Loop: (
+        "__init__", "text", "lines", "inputs", "names", "outs", "arrays", "words", "run", "__eq__", "__str__", "__repr__",
+    ),
+    programs.Program: (
+        "__init__", "text", "lines", "places", "arrays", "words", "outs", "takes", "run", "without", "put", "__eq__",
+        "__str__", "__repr__",
+    ),
+    outcomes.Outcome: ("results", "stored", "loaded", "kinds", "value", "__eq__"),
+}
+
+# The classes and functions of the interface stand in the files under which they are listed.
+LISTED = {
+    errors: ("WrongValue", "WrongMoment"), worlds: ("Texts", "Numbers"), loops: ("Loop",), programs: ("Program",),
+    outcomes: ("Outcome",),
 }
 
 
@@ -64,9 +78,8 @@ class PackageTest(unittest.TestCase):
                         own = node.module.startswith("overlapturns.")
                         self.assertTrue(own or node.module in LIBRARY)
 
-    def test_classes_are_defined_where_they_are_listed(self):
-        listed = {errors: ("WrongValue", "WrongMoment"), worlds: ("Texts", "Numbers")}
-        for module, names in listed.items():
+    def test_all_is_defined_where_it_is_listed(self):
+        for module, names in LISTED.items():
             for name in names:
                 with self.subTest(name=name):
                     self.assertEqual(getattr(module, name).__module__, module.__name__)
