@@ -5,7 +5,7 @@ Beside statements there are ("take", place, value), ("if", bound), ("else",), ("
 """
 
 from overlapturns.limits import MOST_BOUND, MOST_LINES, MOST_PLACES
-from overlapturns.statements import KINDS, arguments_of, arities_of, is_putting, read_statement
+from overlapturns.statements import arguments_of, arities_of, is_putting, read_statement
 from overlapturns.words import are_listed_names, earlier_value, is_name, number_within
 
 MOST_STEP = 4
@@ -115,11 +115,6 @@ def places_of(code):
         for place in places_in(line):
             met[place] = True
     return tuple(sorted(met))
-
-
-def statements_of(code):
-    """Return the row of the statements among the lines."""
-    return tuple([line for line in code if line[0] in KINDS])
 
 
 def read_program(text):

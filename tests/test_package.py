@@ -5,7 +5,7 @@ import os
 import unittest
 import warnings
 
-from overlapturns import errors, loops, outcomes, programs, worlds
+from overlapturns import counts, errors, judging, loops, outcomes, programs, samples, touching, worlds
 
 # The language's few modules of the library, from which names may be imported.
 LIBRARY = ("__future__", "collections", "heapq", "itertools", "math")
@@ -23,13 +23,18 @@ METHODS = {
         "__init__", "text", "lines", "places", "arrays", "words", "outs", "takes", "run", "without", "put", "__eq__",
         "__str__", "__repr__",
     ),
+    counts.Counts: (
+        "__init__", "start", "period", "members", "first", "endless", "within", "__or__", "__and__", "__sub__",
+        "__contains__", "__eq__", "__str__", "__repr__",
+    ),
     outcomes.Outcome: ("results", "stored", "loaded", "kinds", "value", "__eq__"),
 }
 
 # The classes and functions of the interface stand in the files under which they are listed.
 LISTED = {
     errors: ("WrongValue", "WrongMoment"), worlds: ("Texts", "Numbers"), loops: ("Loop",), programs: ("Program",),
-    outcomes: ("Outcome",),
+    outcomes: ("Outcome",), samples: ("sample_loop", "sample_program", "hasty_program"), counts: ("Counts",),
+    judging: ("is_right", "first_wrong", "wrong_counts"), touching: ("first_beyond", "reach"),
 }
 
 

@@ -1,0 +1,39 @@
+"""Errors of loops, programs, and programs that are not for a loop."""
+
+from overlapturns.errors import NotALoop, NotAProgram, OtherOuts, OtherWords, UnknownInput
+from overlapturns.loops import Loop
+from overlapturns.programs import Program
+from overlapturns.words import earlier_value
+
+
+def check_loop(loop):
+    """Raise NotALoop for what is no loop."""
+    if not isinstance(loop, Loop):
+        raise NotALoop(loop)
+
+
+def check_program(program):
+    """Raise NotAProgram for what is no program."""
+    if not isinstance(program, Program):
+        raise NotAProgram(program)
+
+
+def is_known_to(loop, value):
+    """Tell whether the value of a take is an input or a first value of the loop."""
+    earlier = earlier_value(value)
+    if earlier is None:
+        return value in loop.inputs
+    return earlier[0] in loop.names
+
+
+def check_fit(loop, program):
+    """Raise what tells first why a program is not for a loop."""
+    for take in program.takes:
+        if not is_known_to(loop, take[1]):
+            raise UnknownInput(take[1])
+    arities = {word: many for word, many in loop.words}
+    for word, many in program.words:
+        if arities.get(word, many) != many:
+            raise OtherWords(word)
+    if len(loop.outs) != len(program.outs):
+        raise OtherOuts(len(program.outs))
