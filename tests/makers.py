@@ -76,6 +76,15 @@ def at_once(loop_text, times, ending):
     return "\n".join(takes + [f"while {times}"] + one * times + ["end"] + tails[ending] + out)
 
 
+def begun(loop_text, ahead, times):
+    """Some turns ahead of the while, each of its own, then so many turns at once."""
+    takes, turn, out = parts_of(loop_text)
+    one = turn + ["step 1"]
+    slow = ["while 1"] + one + ["end"]
+    quick = [f"while {times}"] + one * times + ["end"]
+    return "\n".join(takes + [f"if {ahead}"] + one * ahead + ["end"] + quick + slow + out)
+
+
 def guarded(loop_text, times, bound):
     """So many turns at once if there are enough of them, otherwise one each time."""
     takes, turn, out = parts_of(loop_text)

@@ -88,6 +88,29 @@ class RightTest(JudgedCase):
                 with self.subTest(loop=loop, times=times, bound=bound):
                     self.right(loop, makers.guarded(loop, times, bound))
 
+    def test_turns_ahead_of_the_while(self):
+        rng = random.Random(12)
+        for loop in self.loops(13, 6) + [makers.some_loop(rng, ("load", "store", "store")) for _ in range(6)]:
+            for ahead, times in ((1, 1), (2, 1), (3, 2), (5, 4)):
+                with self.subTest(loop=loop, ahead=ahead, times=times):
+                    self.assertIsNone(first_wrong(Loop(loop), Program(makers.begun(loop, ahead, times))))
+            self.right(loop, makers.begun(loop, 4, 2))
+
+    def test_cells_stored_ahead_of_the_while(self):
+        loop = "in k\nx = load A -4\ny = f x\nstore A 4 y\nstore B -4 k\nz = load B 4\nout z x"
+        program = makers.begun(loop, 3, 1)
+        self.right(loop, program)
+        for old, new in (("y = f x", "y = x"), ("store A 4 y", "store A 4 x"), ("store A 4 y", "store A 3 y"), ("load A -4", "load A -3")):
+            told = self.check(loop, program.replace(old, new, 1), 60)
+            self.assertEqual(told, Counts(again=(3,)))
+
+    def test_stored_back_behind_the_count(self):
+        for bound in range(1, 9):
+            program = f"while {bound}\nx = load A 0\nstore A 0 x\nstep 4\ny = load B -4\nstore B -4 y\nstep 4\nx = load A 4\nend"
+            self.right("x = load A 0\ny = f x", program)
+            wrong = self.check("in k\nstore A 0 k", f"take k k\nwhile {bound}\nstore A 0 k\nstep 2\nstore A -1 k\nend")
+            self.assertEqual(wrong, Counts((), (1,), 2) if bound < 3 else Counts(again=(1,)))
+
     def test_a_turn_loaded_ahead(self):
         loop, program = sample_loop().text, sample_program().text
         self.right(loop, program)
@@ -209,6 +232,45 @@ class WrongAtTest(JudgedCase):
                 if many > 1 and lcm(length, many) == length * many:
                     self.assertEqual(told.period, length * many)
 
+    def turned(self, names):
+        """The lines that turn the values of places around."""
+        return "t = " + names[0] + "\n" + "".join(f"{one} = {other}\n" for one, other in zip(names, names[1:])) + f"{names[-1]} = t\n"
+
+    def test_works_that_stand_in_rings(self):
+        loop = "in k\nx = f k\nout x"
+        for words in ("fgf", "fff", "gff", "fffg", "fg", "gfgfgf"):
+            names = "abcdef"[:len(words)]
+            works = "".join(f"{name} = {word} k\n" for name, word in zip(names, words))
+            program = f"take k k\ntake r x@1\n{works}while 1\nr = a\n{self.turned(names)}step 1\nend\nout r"
+            wrong = tuple(at + 1 for at, word in enumerate(words) if word == "g")
+            self.assertEqual(self.check(loop, program), Counts((), wrong, len(words)))
+
+    def test_works_with_rings_of_cells_that_stand_in_rings(self):
+        for length, low in ((2, -1), (3, -1), (5, -2), (8, -4)):
+            loop = f"c = load A {low}\nstore A {low + length} c\nx = f c\nout x"
+            for many in (1, 2, 3, 4, 6):
+                names = "abdegh"[:many]
+                begun = "".join(f"{name} = load A {low + at % length}\n{name} = f {name}\n" for at, name in enumerate(names))
+                turn = f"c = load A {low}\nstore A {low + length} c\nx = a\n{self.turned(names)}step 1\n"
+                told = self.check(loop, f"take x x@1\n{begun}while 1\n{turn}end\nout x", 70)
+                self.assertEqual(told.first, None if many % length == 0 else many + 1)
+                if lcm(many, length) == many * length > many:
+                    self.assertEqual(told.period, many * length)
+
+    def test_rings_that_are_worked_in(self):
+        # What is wrong once stays so in sums over all turns, and every second or third turn in others.
+        for back in (1, 2, 3):
+            loop = f"c = load A -3\nstore A 3 c\ns = add s@{back} c\nout s"
+            for many, wrong in ((6, None), (6, 1), (6, 4), (3, 0), (3, 1), (2, 1), (4, 3)):
+                names = "abdegh"[:many]
+                begun = "".join(f"{name} = load A {at - 3 if at != wrong else 4}\n" for at, name in enumerate(names))
+                takes = "".join(f"take p{'xyz'[at]} s@{at + 1}\n" for at in range(back))
+                handed = "".join(f"p{'xyz'[at]} = p{'xyz'[at - 1]}\n" for at in range(back - 1, 0, -1)) + "px = s\n"
+                turn = f"c = load A -3\nstore A 3 c\ns = add p{'xyz'[back - 1]} a\n{handed}{self.turned(names)}step 1\n"
+                told = self.check(loop, f"{takes}{begun}while 1\n{turn}end\nout px", 60)
+                if many == 6:
+                    self.assertEqual((told.first, told.period), (None, 1) if wrong is None else (wrong + 1, back))
+
     def test_great_products_of_rings(self):
         loop = "\n".join(f"{name} = load {array} 0\nstore {array} 1 {name}" for name, array in zip("xyzw", "BCDE")) + "\nout x y z w"
         names = [left + right for left in "abcdefghijklmnopqrstuvwyz" for right in "pqr"]
@@ -268,6 +330,55 @@ class WrongAtTest(JudgedCase):
         self.assertEqual(self.check(loop, f"take a x@1\ntake b x@3\ntake c x@3\n{body}"), Counts((), (2,), 3))
         self.assertEqual(self.check(loop, f"take a x@2\ntake b x@2\ntake c x@3\n{body}"), Counts((), (0,), 3))
         self.assertEqual(self.check(loop, f"take b x@2\ntake c x@3\n{body}"), Counts((), (0,), 3))
+
+    def test_chains_that_go_around_several_names(self):
+        loop = "x = f y@1\ny = g z@3\nz = f x@2\nout x y z"
+        good = makers.plain(loop)
+        self.right(loop, good)
+        self.right(loop, makers.at_once(loop, 4, 1))
+        periods = []
+        for name, back in (("y", 1), ("z", 1), ("z", 2), ("z", 3), ("x", 1), ("x", 2)):
+            old = f"take {makers.place(f'{name}@{back}')} {name}@{back}"
+            for program in (good, makers.at_once(loop, 2, 0), makers.at_once(loop, 3, 2)):
+                told = self.check(loop, program.replace(old, old.replace(f"{name}@", f"{'yz'[name == 'y']}@")), 40, range(100, 110))
+                periods.append(told.period)
+        self.assertEqual(set(periods), {6})
+
+    def test_faster_chains_around_several_names(self):
+        loop = "x = f y@1\ny = g x@1\nout x y"
+        # Two turns a step, begun so late that they come to the loop's at one count.
+        for late in (1, 6, 25, 70):
+            program = "take x x@1\ntake y y@1\n" + "step 4\n" * late + "while 1\nt = f y\ny = g x\nx = t\nt = f y\ny = g x\nx = t\nstep 1\nend\nout x y"
+            told = self.check(loop, program, 40, (8 * late - 2, 8 * late - 1, 8 * late, 8 * late + 1, 8 * late + 2))
+            self.assertEqual(EVERY - told, Counts((0, 8 * late)))
+        # One turn in a step of three, with some turns ahead, as many as are left out up to one count.
+        for ahead in (2, 20, 60):
+            turn = "t = f y\ny = g x\nx = t\n"
+            program = "take x x@1\ntake y y@1\n" + turn * ahead + f"while 3\n{turn}step 3\nend\nwhile 1\n{turn}step 1\nend\nout x y"
+            meet = [count for count in range(4 * ahead) if ahead + count // 3 + count % 3 == count]
+            told = self.check(loop, program, 40, range(meet[0] - 2, meet[-1] + 4))
+            self.assertEqual(EVERY - told, Counts(tuple(meet)))
+
+    def test_one_value_of_several_goes_at_another_pace(self):
+        loop = "x = f x@1\ny = f y@2\nz = g x y\nstore A 0 x\nout z y"
+        good = makers.plain(loop)
+        self.right(loop, good)
+        for old, new in (("ya = y", "ya = x"), ("y = f yb", "y = f ya"), ("x = f xa", "x = f xa\nx = f x"), ("z = g x y", "z = g x yb")):
+            told = self.check(loop, good.replace(old, new, 1), 60)
+            self.assertTrue(told.endless)
+
+    def test_cells_met_by_a_value_that_stays(self):
+        loop = "x = load A 0\nout x"
+        for late in range(0, 13):
+            program = "step 4\n" * late + "a = load A 3\nif 2\nstep 2\nend\nwhile 1\nstep 1\nend\nout a"
+            self.assertEqual(EVERY - self.check(loop, program, 70), Counts((4 * late + 4,)))
+
+    def test_stores_that_are_wrong_at_no_turn_at_all(self):
+        loop = "in k\nstore A 0 k\nx = f k"
+        self.assertEqual(self.check(loop, "take k k\nstore A 0 k\nwhile 1\nstore A 0 k\nstep 1\nend"), Counts((0,)))
+        told = self.check(loop, "take k k\nif 5\nelse\nstore A 4 k\nend\nwhile 1\nstore A 0 k\nstep 1\nend")
+        self.assertEqual(told, Counts((0, 1, 2, 3, 4)))
+        self.assertEqual(first_wrong(Loop(loop), Program("take k k\nstore A 0 k\nif 1\nend")), (0, ("cell", "A", 0)))
 
     def test_writings_that_double_with_each_turn(self):
         loop = "x = mul x@1 x@1\ny = add y@1 x\nout y x"
