@@ -46,9 +46,9 @@ class Outcome:
             return self._cells[(array, index)]
         return self._world.cell(array, index)
 
-    def _told(self):
+    def _all_of_it(self):
         cells = [self._cells[cell] for cell in self._stored]
         return (self._results, self._stored, self._loaded, self._kinds, cells)
 
     def __eq__(self, other):
-        return isinstance(other, Outcome) and self._told() == other._told()
+        return isinstance(other, Outcome) and self._all_of_it() == other._all_of_it()

@@ -38,6 +38,12 @@ LISTED = {
 }
 
 
+# Of these the plain methods of a class are not: they are called where nothing may be changed.
+CHANGING_NOTHING = (
+    "__eq__", "__str__", "__repr__", "__contains__", "__getitem__", "__or__", "__and__", "__add__", "__sub__", "__len__",
+)
+
+
 def texts_of_files():
     texts = {}
     for name in sorted(os.listdir(FOLDER)):
@@ -45,6 +51,40 @@ def texts_of_files():
             with open(os.path.join(FOLDER, name), encoding="utf-8", newline="") as file:
                 texts[name] = file.read()
     return texts
+
+
+def functions_of_files():
+    """All functions and methods as triples of the class (None for functions), the name and the node."""
+    functions = []
+    for text in texts_of_files().values():
+        for node in ast.parse(text).body:
+            if isinstance(node, ast.FunctionDef):
+                functions.append((None, node.name, node))
+            elif isinstance(node, ast.ClassDef):
+                functions += [(node.name, below.name, below) for below in node.body if isinstance(below, ast.FunctionDef)]
+    return functions
+
+
+def is_property(node):
+    return any(isinstance(mark, ast.Name) and mark.id == "property" for mark in node.decorator_list)
+
+
+def called_names(node):
+    """The names of functions and of methods that are called in a function."""
+    calls = [below.func for below in ast.walk(node) if isinstance(below, ast.Call)]
+    plain = {call.id for call in calls if isinstance(call, ast.Name)}
+    return plain, {call.attr for call in calls if isinstance(call, ast.Attribute)}
+
+
+def is_changing(node):
+    """Whether a method assigns to attributes, or to items of attributes."""
+    for below in ast.walk(node):
+        if isinstance(below, (ast.Attribute, ast.Subscript)) and isinstance(below.ctx, ast.Store):
+            while isinstance(below, ast.Subscript):
+                below = below.value
+            if isinstance(below, ast.Attribute):
+                return True
+    return False
 
 
 class PackageTest(unittest.TestCase):
@@ -66,6 +106,24 @@ class PackageTest(unittest.TestCase):
                 if isinstance(node, ast.FunctionDef):
                     with self.subTest(name=name, function=node.name):
                         self.assertLessEqual(node.end_lineno - node.lineno + 1, 40)
+
+    def test_comparing_and_asking_change_nothing(self):
+        # Calls of methods count by the name alone, so no other method of that name may change anything.
+        functions = functions_of_files()
+        waiting = [node for made, name, node in functions if made and (name in CHANGING_NOTHING or is_property(node))]
+        met = []
+        while waiting:
+            node = waiting.pop()
+            if node in met:
+                continue
+            met.append(node)
+            plain, methods = called_names(node)
+            for made, name, other in functions:
+                if name in (methods if made else plain):
+                    with self.subTest(asked=node.name, called=name):
+                        self.assertFalse(made and is_changing(other))
+                    waiting.append(other)
+        self.assertGreater(len(met), 40)
 
     def test_python_gives_no_warning(self):
         for name, text in texts_of_files().items():
