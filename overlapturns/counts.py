@@ -105,7 +105,7 @@ class Counts:
     def __str__(self):
         told = [str(member) for member in self.members]
         if self.endless:
-            told = told + [f".. from {self.start} by {self.period}"]
+            told.append(f".. from {self.start} by {self.period}")
         return " ".join(told or ["none"])
 
     def __repr__(self):

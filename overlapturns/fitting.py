@@ -1,6 +1,7 @@
 """Errors of loops, programs, and programs that are not for a loop."""
 
-from overlapturns.errors import NotALoop, NotAProgram, OtherOuts, OtherWords, UnknownInput
+from overlapturns.errors import InvalidNumber, NotALoop, NotAProgram, OtherOuts, OtherWords, UnknownInput
+from overlapturns.kinds import is_integer_within
 from overlapturns.loops import Loop
 from overlapturns.programs import Program
 from overlapturns.words import earlier_value
@@ -37,3 +38,16 @@ def check_fit(loop, program):
             raise OtherWords(word)
     if len(loop.outs) != len(program.outs):
         raise OtherOuts(len(program.outs))
+
+
+def check_pair(loop, program):
+    """Raise what tells first why these are not a loop and a program for it."""
+    check_loop(loop)
+    check_program(program)
+    check_fit(loop, program)
+
+
+def check_line(program, index, kinds):
+    """Raise InvalidNumber for what is not the index of a line of one of these kinds."""
+    if not is_integer_within(index, 0, len(program.code) - 1) or program.code[index][0] not in kinds:
+        raise InvalidNumber(index)

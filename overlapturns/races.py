@@ -20,12 +20,12 @@ class Race:
     each of its goings.
     """
 
-    def __init__(self, loop, program):
-        self.one_turn = loop.turn
-        self.loop_ends = loop.ends
-        self.read_code = program.code
-        self.program_takes = program.takes
-        self.program_ends = program.outs
+    def __init__(self, sides):
+        self.one_turn = sides.one_turn
+        self.loop_ends = sides.loop_ends
+        self.read_code = sides.read_code
+        self.program_takes = sides.program_takes
+        self.program_ends = sides.program_ends
         self.jumps = jumps_of(self.read_code)
         self.plan = plan_of(self.read_code, self.jumps)
         self.letters = arrays_of(self.one_turn + self.read_code)

@@ -10,6 +10,8 @@ from overlapturns.words import is_letter, is_name, number_within
 
 # The kinds in the order in which an outcome counts them.
 KINDS = ("work", "load", "store", "copy", "step")
+# Those of which a line can be left out.
+DEEDS = ("work", "load", "store", "copy")
 MOST_ARGUMENTS = 3
 
 

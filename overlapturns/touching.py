@@ -1,6 +1,6 @@
 """Which cells programs touch."""
 
-from overlapturns.fitting import check_fit, check_loop, check_program
+from overlapturns.fitting import check_pair, check_program
 from overlapturns.limits import MOST_OFFSET
 from overlapturns.plans import plan_of
 from overlapturns.walks import jumps_of, walk
@@ -44,9 +44,7 @@ def is_touched(offsets, array, index, count):
 
 def first_beyond(loop, program):
     """Return the least count at which a cell is touched that the loop does not touch, with the first such cell."""
-    check_loop(loop)
-    check_program(program)
-    check_fit(loop, program)
+    check_pair(loop, program)
     offsets = offsets_of(loop)
     jumps = jumps_of(program.code)
     plan = plan_of(program.code, jumps)

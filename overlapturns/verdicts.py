@@ -1,5 +1,6 @@
 """At which counts a program for a loop is wrong."""
 
+from overlapturns.ends import first_unlike
 from overlapturns.forecasts import Forecast
 from overlapturns.races import Race
 from overlapturns.rhythms import ALL, lowest_of, rhythm_from
@@ -12,8 +13,8 @@ class Verdict:
     ended behind the first count at which the program is wrong, whatever comes then.
     """
 
-    def __init__(self, loop, program, hasty):
-        self.race = Race(loop, program)
+    def __init__(self, sides, hasty):
+        self.race = Race(sides)
         self.hasty = hasty
         self.forecast = None
         self.rounds = 0
@@ -47,14 +48,27 @@ class Verdict:
         return self.forecast.missing(self.rounds)
 
 
-def wrong_rhythm(loop, program):
+def wrong_rhythm(sides):
     """Return the rhythm of the counts at which the program is wrong."""
-    return Verdict(loop, program, False).rhythm()
+    return Verdict(sides, False).rhythm()
 
 
-def first_wrong_count(loop, program):
+def first_wrong_count(sides):
     """Return the least count at which the program is wrong, None if there is none."""
-    bits = Verdict(loop, program, True).rhythm()[2]
+    bits = Verdict(sides, True).rhythm()[2]
     if bits == 0:
         return None
     return lowest_of(bits)
+
+
+def is_always_right(sides):
+    """Tell whether the program is right for all counts."""
+    return first_wrong_count(sides) is None
+
+
+def first_error(sides):
+    """Return the least count at which the program is wrong, with the first place of error there, or None."""
+    count = first_wrong_count(sides)
+    if count is None:
+        return None
+    return (count, first_unlike(sides, count))

@@ -167,3 +167,27 @@ def first_error(loop_text, program_text, count):
         if ours.content(array, index) != theirs.content(array, index):
             return ("cell", array, index)
     return None
+
+
+def shared(text, one, other, distance):
+    """A loop or a program in which the array other lies over the array one, so that both share their cells.
+
+    They are called by the first one of both names; offsets may come to be greater than a text's.
+    """
+    array, name, by = (other, one, distance) if one < other else (one, other, -distance)
+    rows = [line.split() for line in text.split("\n")]
+    for row in rows:
+        if row[0] == "store" and row[1] == array:
+            row[1:3] = [name, str(int(row[2]) + by)]
+        elif len(row) == 5 and row[2] == "load" and row[3] == array:
+            row[3:5] = [name, str(int(row[4]) + by)]
+    return "\n".join(" ".join(row) for row in rows)
+
+
+def first_wrong_run(loop_text, program_text, most=40):
+    """The first count up to most, with the first place of error there, None if there is none."""
+    for count in range(most + 1):
+        where = first_error(loop_text, program_text, count)
+        if where is not None:
+            return (count, where)
+    return None

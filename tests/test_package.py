@@ -5,7 +5,7 @@ import os
 import unittest
 import warnings
 
-from overlapturns import counts, errors, judging, loops, outcomes, programs, samples, touching, worlds
+from overlapturns import counts, errors, judging, loops, made, mending, outcomes, programs, samples, times, touching, worlds
 
 # The language's few modules of the library, from which names may be imported.
 LIBRARY = ("__future__", "collections", "heapq", "itertools", "math")
@@ -28,6 +28,8 @@ METHODS = {
         "__contains__", "__eq__", "__str__", "__repr__",
     ),
     outcomes.Outcome: ("results", "stored", "loaded", "kinds", "value", "__eq__"),
+    times.Costs: ("__init__", "works", "loads", "stores", "copies", "steps", "tests", "__eq__"),
+    times.Form: ("rise", "__call__", "__add__", "__sub__", "__eq__", "__repr__"),
 }
 
 # The classes and functions of the interface stand in the files under which they are listed.
@@ -35,6 +37,8 @@ LISTED = {
     errors: ("WrongValue", "WrongMoment"), worlds: ("Texts", "Numbers"), loops: ("Loop",), programs: ("Program",),
     outcomes: ("Outcome",), samples: ("sample_loop", "sample_program", "hasty_program"), counts: ("Counts",),
     judging: ("is_right", "first_wrong", "wrong_counts"), touching: ("first_beyond", "reach"),
+    mending: ("needless", "bounds_that_do", "offsets_that_do", "wrong_distances"),
+    times: ("Costs", "Form", "time_of", "never_more", "never_more_from"), made: ("plain", "unrolled", "ahead"),
 }
 
 
