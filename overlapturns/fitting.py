@@ -1,6 +1,6 @@
-"""Errors of loops, programs, and programs that are not for a loop."""
+"""What is no loop, no program, no program for a loop, and no line of one."""
 
-from overlapturns.errors import InvalidNumber, NotALoop, NotAProgram, OtherOuts, OtherWords, UnknownInput
+from overlapturns.errors import InvalidNumber, InvalidText, NotALoop, NotAProgram, OtherOuts, OtherWords, UnknownInput
 from overlapturns.kinds import is_integer_within
 from overlapturns.loops import Loop
 from overlapturns.programs import Program
@@ -47,7 +47,29 @@ def check_pair(loop, program):
     check_fit(loop, program)
 
 
+def is_fit(loop, program):
+    """Tell whether a program is for a loop."""
+    try:
+        check_fit(loop, program)
+    except (UnknownInput, OtherWords, OtherOuts):
+        return False
+    return True
+
+
+def is_line(program, index, kinds):
+    """Tell whether a value of any kind is the index of a line of one of these kinds."""
+    return is_integer_within(index, 0, len(program.code) - 1) and program.code[index][0] in kinds
+
+
 def check_line(program, index, kinds):
     """Raise InvalidNumber for what is not the index of a line of one of these kinds."""
-    if not is_integer_within(index, 0, len(program.code) - 1) or program.code[index][0] not in kinds:
+    if not is_line(program, index, kinds):
         raise InvalidNumber(index)
+
+
+def shortened(program, index):
+    """Return the program without a line, None if that is none."""
+    try:
+        return program.without(index)
+    except InvalidText:
+        return None

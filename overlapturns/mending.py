@@ -1,16 +1,12 @@
 """What of a program can be left out or put otherwise, and where arrays may not lie over one another."""
 
-from overlapturns.errors import InvalidArray, InvalidText, NotRight
-from overlapturns.fitting import check_fit, check_line, check_loop, check_pair, check_program
+from overlapturns.errors import InvalidArray, NotRight
+from overlapturns.fitting import check_fit, check_line, check_loop, check_pair, check_program, shortened
 from overlapturns.limits import MOST_BOUND, MOST_OFFSET
-from overlapturns.sides import laid_over, sides_of
+from overlapturns.sides import MOST_APART, laid_over, sides_of
 from overlapturns.statements import DEEDS
 from overlapturns.verdicts import first_error, is_always_right
 from overlapturns.words import is_letter
-
-# Farther from 0 all touches of a cell by one of its two names come before those by the other one,
-# in the loop and in the program, so that each of both is met with the same values in both.
-MOST_APART = 2 * MOST_OFFSET
 
 
 def check_right(sides):
@@ -18,14 +14,6 @@ def check_right(sides):
     error = first_error(sides)
     if error is not None:
         raise NotRight(error[0], error[1])
-
-
-def shortened(program, index):
-    """Return the program without a line, None if that is none."""
-    try:
-        return program.without(index)
-    except InvalidText:
-        return None
 
 
 def needless(loop, program):

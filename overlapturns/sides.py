@@ -1,5 +1,11 @@
 """What a loop and a program do, as they are compared with one another."""
 
+from overlapturns.limits import MOST_OFFSET
+
+# Arrays that lie farther over one another make no right program wrong: all touches of a cell by
+# one of its two names come before those by the other one, in the loop and in the program.
+MOST_APART = 2 * MOST_OFFSET
+
 
 class Sides:
     """One turn of a loop and where its results stand; the lines of a program, its takes and its results."""

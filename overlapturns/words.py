@@ -27,6 +27,11 @@ def number_within(word, least, most):
     return None
 
 
+def is_number(word):
+    """Tell whether a word writes a number from 0 on."""
+    return word == "0" or (word[:1] != "0" and word != "" and all(["0" <= sign <= "9" for sign in word]))
+
+
 def earlier_value(word):
     """Return the name and the distance of a word like x@2, None if it is no such word."""
     name, sign, behind = word.partition("@")

@@ -5,7 +5,8 @@ import os
 import unittest
 import warnings
 
-from overlapturns import counts, errors, judging, loops, made, mending, outcomes, programs, samples, times, touching, worlds
+from overlapturns import books, checker, console, counts, errors, judging, loops, made, mending, outcomes, papers, programs
+from overlapturns import samples, times, touching, worlds
 
 # The language's few modules of the library, from which names may be imported.
 LIBRARY = ("__future__", "collections", "heapq", "itertools", "math")
@@ -29,6 +30,11 @@ METHODS = {
     ),
     outcomes.Outcome: ("results", "stored", "loaded", "kinds", "value", "__eq__"),
     times.Costs: ("__init__", "works", "loads", "stores", "copies", "steps", "tests", "__eq__"),
+    books.Book: (
+        "__init__", "put", "drop", "wish", "lift", "undo", "trial", "tried", "names", "wishes", "changes", "__getitem__", "__contains__",
+        "__eq__",
+    ),
+    console.Console: ("__init__", "say"),
     times.Form: ("rise", "__call__", "__add__", "__sub__", "__eq__", "__repr__"),
 }
 
@@ -39,6 +45,7 @@ LISTED = {
     judging: ("is_right", "first_wrong", "wrong_counts"), touching: ("first_beyond", "reach"),
     mending: ("needless", "bounds_that_do", "offsets_that_do", "wrong_distances"),
     times: ("Costs", "Form", "time_of", "never_more", "never_more_from"), made: ("plain", "unrolled", "ahead"),
+    books: ("Book",), checker: ("accepts",), papers: ("paper_of_wrong", "paper_of_beyond", "paper_of_needed"), console: ("Console",),
 }
 
 
