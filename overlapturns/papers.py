@@ -35,7 +35,6 @@ def paper_of_wrong(loop, program):
 
 def paper_of_beyond(loop, program):
     """Return a claim that the program touches a cell beyond the loop's with a paper for it, None if there is none."""
-    check_pair(loop, program)
     beyond = first_beyond(loop, program)
     if beyond is None or beyond[0] > MOST_SHOWN:
         return None

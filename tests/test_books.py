@@ -4,6 +4,7 @@ import unittest
 
 import makers
 import strange
+import test_mending
 from plainly import first_wrong_run, program_end, shared, Numbered
 from overlapturns.books import Book
 from overlapturns.counts import Counts
@@ -329,10 +330,33 @@ class WishesTest(BookCase):
             self.kept(book, lambda: book.wish(wish))
         self.assertEqual(len(book.wishes), 3)
 
+    def test_over_with_loads_from_both(self):
+        loop = Loop("x = load B 0\ny = load A 1\nstore A -1 x\nstore B 1 y")
+        program = Program("while 1\ny = load A 1\nx = load B 0\nstore B 1 y\nstore A -1 x\nstep 1\nend")
+        for ahead_of_them in ("", "if 2\ny = load A 1\nx = load B 0\nz = load B 1\nstore B 1 y\nstore A -1 x\ny = load A 2\nstep 1\nstore B 1 y\nstore A -1 z\nstep 1\nend\n"):
+            self.distances(loop, Program(ahead_of_them + program.text))
+
     def test_made_programs(self):
         rng = random.Random(51)
-        shown = 0
-        for _ in range(30):
+        for _ in range(40):
+            self.distances(*test_mending.some_pair(rng, ("load", "store", "work"), 12))
+
+    def distances(self, loop, program):
+        """Compare what wishes of many distances show with runs."""
+        for one, other in (("A", "B"), ("B", "A"), ("B", "C"), ("C", "A")):
+            book = Book()
+            book.put("a", loop, program)
+            for distance in range(-8, 9):
+                wish = ("over", "a", one, other, distance)
+                error = first_wrong_run(*[shared(side.text, one, other, distance) for side in (loop, program)], 20)
+                if error is None:
+                    self.kept(book, lambda: book.wish(wish))
+                else:
+                    self.refused(NotKept, book, lambda: book.wish(wish), index=len(book.wishes), shown=error)
+
+    def test_made_programs_at_some_distances(self):
+        rng = random.Random(52)
+        for _ in range(10):
             text = makers.some_loop(rng, ("load", "store", "work"))
             loop = Loop(text)
             book = Book()
@@ -341,12 +365,8 @@ class WishesTest(BookCase):
                 one, other = rng.sample("ABC", 2)
                 wish = ("over", "a", one, other, distance)
                 error = first_wrong_run(*[shared(side.text, one, other, distance) for side in book["a"]])
-                if error is None:
-                    self.kept(book, lambda: book.wish(wish))
-                else:
-                    shown += 1
-                    self.refused(NotKept, book, lambda: book.wish(wish), index=len(book.wishes), shown=error)
-        self.assertGreater(len(book.wishes), 0)
+                self.assertIsNone(error)
+                self.kept(book, lambda: book.wish(wish))
 
 
 class UndoTest(BookCase):

@@ -220,6 +220,10 @@ class NeededTest(CheckerCase):
         index = text.split("\n").index("q = k")
         for count in range(5):
             self.no(("needed", LOOP, text, index), (count, ("out", 0)) + WORLD)
+        # A line that makes the program wrong is not needed either.
+        text = GOOD.replace("out s", "s = k\nout s")
+        self.yes(("wrong", LOOP, text, 1, ("out", 0)), WORLD)
+        self.no(("needed", LOOP, text, text.split("\n").index("s = k")), (1, ("out", 0)) + WORLD)
 
     def test_indexes(self):
         for index in (-1, 17, 18, 10 ** 39, -(10 ** 39), True, False, None, "5", (5,), [5], 0, 1, 2, 4, 9, 10, 14, 15, 16):
@@ -227,6 +231,7 @@ class NeededTest(CheckerCase):
                 self.no(replaced(NEEDED, 3, index), (count, ("out", 0)) + WORLD)
 
     def test_lines_without_which_there_is_no_program(self):
+        self.no(("needed", "in k\nstore A 0 k", "take k k\nif 1\nend\nstore A 0 k", -1), (1, ("cell", "A", 0)) + WORLD)
         self.no(("needed", "in k\nstore A 0 k", "take k k\nstore A 0 k", 1), (0, ("cell", "A", 0)) + WORLD)
         self.yes(("needed", "in k\nstore A 0 k", "take k k\nif 1\nstore A 0 k\nend", 2), (1, ("cell", "A", 0)) + WORLD)
 

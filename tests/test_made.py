@@ -146,9 +146,12 @@ class AheadTest(MadeCase):
             run = Noted(program.text, count)
             self.assertLessEqual(run.end.touched(), loop_end(loop.text, count, Numbered()).touched())
             if count >= turns:
+                noted = {}
                 for array, offset in nearest(loop):
                     for turn in range(count):
-                        self.assertIn(max(turn - turns, 0), run.noted[array, turn + offset])
+                        noted.setdefault((array, turn + offset), set()).add(max(turn - turns, 0))
+                arrays = {array for array, _ in nearest(loop)}
+                self.assertEqual({cell: run.noted[cell] for cell in run.noted if cell[0] in arrays}, noted)
         self.assertEqual(program, ahead(turns=turns, loop=Loop(loop.text)))
 
     def test_loops_of_all_kinds(self):

@@ -1,6 +1,7 @@
 import random
 import time
 import unittest
+import unittest.mock
 
 import makers
 import strange
@@ -118,7 +119,7 @@ class PapersTest(unittest.TestCase):
 
     def test_beyond_up_to_sixty(self):
         for steps in (1, 14, 15, 16, 40):
-            for offset in (-1, 0):
+            for offset in (-4, -3, -1, 0):
                 text = "step 4\n" * steps + f"if {1 - offset}\nx = load B {offset}\nend"
                 first = (4 * steps + 1 - offset, "B", 4 * steps + offset)
                 loop = "x = load A 0"
@@ -139,6 +140,11 @@ class PapersTest(unittest.TestCase):
         twice = program.replace("step 1", "x = dqctaa k\nstep 1")
         self.assertEqual(paper_of_needed(Loop(loop), Program(twice), 4)[1], (1, ("out", 0), MODULUS, 1))
         self.assertEqual(self.needed(loop, twice, 4), 1)
+
+    def test_worlds_that_are_asked(self):
+        with unittest.mock.patch("overlapturns.papers.is_unlike_in", return_value=False) as asked:
+            self.assertIsNone(paper_of_wrong(sample_loop(), hasty_program()))
+        self.assertEqual([call.args[0] for call in asked.call_args_list], [Numbers(MODULUS, seed) for seed in range(100)])
 
     def test_no_world_shows_it(self):
         # Both words have the same code in all worlds with this modulus.
@@ -227,6 +233,10 @@ class WrongInputsTest(unittest.TestCase):
             with self.assertRaises(InvalidNumber) as caught:
                 paper_of_needed(strange.LOOP, Program(text), 400)
             self.assertEqual(caught.exception.given, 400)
+
+    def test_indexes_below_zero_where_the_last_line_could_be_left_out(self):
+        with self.assertRaises(InvalidNumber):
+            paper_of_needed(Loop("x = f x@1"), Program("step 1\na = b"), -1)
 
     def test_indexes_of_no_such_line(self):
         program = sample_program()

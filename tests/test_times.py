@@ -307,12 +307,12 @@ class NeverMoreTest(unittest.TestCase):
         self.assertIsNone(self.check(three, one, 1000))
 
     def test_forms_with_the_same_rise(self):
-        one = form_of("while 1\nb = a\nstep 1\nend", copies=2)
+        one = form_of("while 1\nb = a\nstep 1\nend", copies=1)
         for many in (1, 3):
-            two = form_of("if 5\n" + "b = a\n" * many + "end\nwhile 1\nb = a\nstep 1\nend", copies=2)
+            two = form_of("if 5\n" + "b = a\n" * many + "end\nwhile 1\nb = a\nstep 1\nend", copies=1)
             self.assertEqual(self.check(one, two, 60), 0)
             self.assertIsNone(self.check(two, one, 1000))
-            three = form_of("if 5\nelse\n" + "b = a\n" * many + "end\nwhile 1\nb = a\nstep 1\nend", copies=2)
+            three = form_of("if 5\nelse\n" + "b = a\n" * many + "end\nwhile 1\nb = a\nstep 1\nend", copies=1)
             self.assertEqual(self.check(three, one, 60), 5)
         self.assertEqual(self.check(one, one, 60), 0)
         self.assertEqual(never_more_from(other=one, form=one), 0)
