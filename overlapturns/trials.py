@@ -2,37 +2,29 @@
 
 
 class Mark:
-    """What a trial keeps of the block around another one: what the book had, and the mark of the next one around."""
+    """Where a block began: what the book had there, and the mark of the block around it, None if there is none."""
 
-    def __init__(self, held, below):
+    def __init__(self, held, around):
         self.held = held
-        self.below = below
+        self.around = around
 
 
 class Trial:
     """What stands in `with`, for several blocks, also within one another.
 
-    `held` is what the book had when the innermost block that goes on began, None if there is none.
+    `inner` is the mark of the innermost block that goes on, None if there is none.
     """
 
     def __init__(self, book):
         self.book = book
-        self.held = None
-        self.around = None
+        self.inner = None
 
     def __enter__(self):
-        self.around = Mark(self.held, self.around)
-        self.held = self.book.standing
+        self.inner = Mark(self.book.standing, self.inner)
         return self.book
 
     def __exit__(self, kind, value, trace):
         book = self.book
         if kind is not None:
-            book.standing = self.held
-        self.leave_block()
-
-    # The block around this one is the innermost one again.
-    def leave_block(self):
-        around = self.around
-        self.held = around.held
-        self.around = around.below
+            book.standing = self.inner.held
+        self.inner = self.inner.around

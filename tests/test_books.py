@@ -540,6 +540,80 @@ class TrialTest(BookCase):
                 raise KeyError
         self.assertEqual((book.names, book.changes), (("a",), 1))
 
+    def run_blocks(self, book, dice, trial_for, depth):
+        """Do changes and blocks by chance, and see behind each block that the book is as it must be."""
+        for _ in range(dice.randrange(1, 4)):
+            name = dice.choice("abcdef")
+            book.put(name, LOADED, FETCHED)
+            if dice.random() < 0.3:
+                book.undo()
+            if depth == 0:
+                continue
+            before = state(book)
+            if dice.random() < 0.5:
+                with self.assertRaises(KeyError):
+                    with trial_for(book):
+                        self.run_blocks(book, dice, trial_for, depth - 1)
+                        raise KeyError
+                self.assertEqual(state(book), before)
+            else:
+                with trial_for(book):
+                    self.run_blocks(book, dice, trial_for, depth - 1)
+                    before = state(book)
+                self.assertEqual(state(book), before)
+
+    def test_blocks_by_chance_with_one_trial_and_with_one_each(self):
+        for seed in range(40):
+            ends = []
+            for single in (True, False):
+                book = Book()
+                trial = book.trial()
+                self.run_blocks(book, random.Random(seed), lambda given: trial if single else given.trial(), 4)
+                ends.append(state(book))
+            with self.subTest(seed=seed):
+                self.assertEqual(ends[0], ends[1])
+
+    def test_an_exception_that_leaves_several_blocks_of_one_trial(self):
+        book = sample_book()
+        trial = book.trial()
+        with trial:
+            book.put("a", LOADED, FETCHED)
+            before = state(book)
+            with self.assertRaises(KeyError):
+                with trial:
+                    book.put("b", LOADED, FETCHED)
+                    with trial, trial:
+                        book.put("c", LOADED, FETCHED)
+                        with trial:
+                            book.drop("a")
+                            raise KeyError
+            self.assertEqual(state(book), before)
+            with self.assertRaises(ValueError):
+                with trial:
+                    book.put("d", LOADED, FETCHED)
+                    raise ValueError
+            self.assertEqual(state(book), before)
+        self.assertEqual(state(book), before)
+
+    def test_blocks_of_two_trials_that_overlap(self):
+        def block(trial):
+            with trial:
+                yield
+
+        for order in ((0, 1), (1, 0)):
+            book = sample_book()
+            begun, befores = [], []
+            for name in ("a", "b"):
+                befores.append(state(book))
+                begun.append(block(book.trial()))
+                next(begun[-1])
+                book.put(name, LOADED, FETCHED)
+            for at in order:
+                with self.subTest(order=order, at=at):
+                    with self.assertRaises(KeyError):
+                        begun[at].throw(KeyError())
+                    self.assertEqual(state(book), befores[at])
+
     def test_trials_of_two_books(self):
         book, other = sample_book(), sample_book()
         with self.assertRaises(KeyError):

@@ -5,6 +5,7 @@ import os
 import unittest
 import warnings
 
+from exits import faults_of_class
 from overlapturns import books, checker, console, counts, errors, judging, loops, made, mending, outcomes, papers, programs
 from overlapturns import samples, times, touching, worlds
 
@@ -135,6 +136,30 @@ class PackageTest(unittest.TestCase):
                         self.assertFalse(made and is_changing(other))
                     waiting.append(other)
         self.assertGreater(len(met), 40)
+
+    def test_exits_store_plain_values_alone(self):
+        met = 0
+        for name, text in texts_of_files().items():
+            for node in ast.parse(text).body:
+                if isinstance(node, ast.ClassDef):
+                    met += any(isinstance(below, ast.FunctionDef) and below.name == "__exit__" for below in node.body)
+                    with self.subTest(name=name, made=node.name):
+                        self.assertEqual(faults_of_class(node), [])
+        self.assertGreater(met, 0)
+
+    def test_rows_that_are_too_much_for_an_exit_are_seen(self):
+        head = "class C:\n    def __exit__(self, kind, value, trace):\n"
+        below = "    def leave(self):\n        around = self.around\n        self.around = around.below\n"
+        for rows, faults in (
+            (("pass",), []), (("self.leave()",), [3]), (("self.around = self.around.below",), []),
+            (("net = self.net", "net.now = 0", "net.rows.append(self.now)"), []), (("a = self.a", "b = self.b"), [4]),
+            (("self.rows.pop()",), [3]), (("self.now = self.rows[0]",), [3]), (("self.told = value",), [3]),
+            (("if kind is not None:", "    self.now = self.was"), []), (("if value is None:", "    self.now -= 1"), [3]),
+            (("return kind is None",), [3]), (("return False",), []), (("self.shut(1)",), [3]), (("raise KeyError",), [3]),
+        ):
+            text = head + "".join(f"        {row}\n" for row in rows) + below
+            with self.subTest(rows=rows):
+                self.assertEqual(faults_of_class(ast.parse(text).body[0]), faults)
 
     def test_python_gives_no_warning(self):
         for name, text in texts_of_files().items():
